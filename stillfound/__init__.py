@@ -1,0 +1,1 @@
+"""Stillfound: who is still found, whatever cards are shown and given."""
