@@ -54,11 +54,7 @@ def is_passing(thing):
 def found(standing):
     """For each person the ascending tuple of whom they find, letters held for whom they are to."""
     check_standing(standing)
-    web, letters = standing
-    held = [list(pocket) for pocket in web]
-    for v, w in letters:
-        held[v].append(w)
-    return all_found(held)
+    return all_found(arrived(standing))
 
 
 def fault(standing, row, turning):
@@ -128,6 +124,14 @@ def done(standing, deed):
     if word == "give":
         web = without_card(web, u, w)
     return web, joined(letters, (v, w))
+
+
+def arrived(standing):
+    """The web behind the coming of all letters of a standing."""
+    web, letters = standing
+    for v, w in letters:
+        web = with_card(web, v, w)
+    return web
 
 
 def with_card(web, u, w):

@@ -6,9 +6,14 @@ def is_integer(thing):
     return isinstance(thing, int) and not isinstance(thing, bool)
 
 
+def is_between(thing, least, most):
+    """Whether a thing is an integer from the least to the most."""
+    return is_integer(thing) and least <= thing <= most
+
+
 def is_person(thing, many):
     """Whether a thing is one of so many people."""
-    return is_integer(thing) and 0 <= thing < many
+    return is_between(thing, 0, many - 1)
 
 
 def is_ascending(row):

@@ -26,6 +26,13 @@ def check_web(thing):
         raise NoWeb()
 
 
+def check_webs(one, other):
+    """Raise NoWeb for one that is no web, then for another one that is none of as many people."""
+    check_web(one)
+    if not is_web(other) or len(other) != len(one):
+        raise NoWeb()
+
+
 def finds(web):
     """For each person the ascending tuple of whom they find."""
     check_web(web)
@@ -44,17 +51,24 @@ def knots(web):
     return knots_among(all_found(web))
 
 
+def steps_from(pockets, start):
+    """For each person whom the start finds, how many cards the shortest chain there has."""
+    steps = {start: 0}
+    last = [start]
+    while last:
+        further = []
+        for u in last:
+            for w in pockets[u]:
+                if w not in steps:
+                    steps[w] = steps[u] + 1
+                    further.append(w)
+        last = further
+    return steps
+
+
 def found_from(pockets, start):
     """The ascending tuple of all to whom a chain of cards leads from the start."""
-    seen = {start}
-    ahead = [start]
-    while ahead:
-        u = ahead.pop()
-        for w in pockets[u]:
-            if w not in seen:
-                seen.add(w)
-                ahead.append(w)
-    return tuple(sorted(seen))
+    return tuple(sorted(steps_from(pockets, start)))
 
 
 def all_found(pockets):
@@ -62,14 +76,19 @@ def all_found(pockets):
     return tuple([found_from(pockets, u) for u in range(len(pockets))])
 
 
-def pieces_among(pockets):
-    """The pieces of people with these pockets."""
+def both_ways(pockets):
+    """These pockets with, for each card, also one that leads back."""
     linked = [list(pocket) for pocket in pockets]
     for u, pocket in enumerate(pockets):
         for w in pocket:
             linked[w].append(u)
+    return linked
+
+
+def pieces_among(pockets):
+    """The pieces of people with these pockets."""
     # Where each link leads both ways, a piece is a knot.
-    return knots_among(all_found(linked))
+    return knots_among(all_found(both_ways(pockets)))
 
 
 def knots_among(found):

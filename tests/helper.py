@@ -118,3 +118,171 @@ def right_deeds(people):
     deeds += [("show", u, v, w) for u, v in pairs for w in people if w != v]
     deeds += [("give", u, v, w) for u, v in pairs for w in people if w not in (u, v)]
     return deeds
+
+
+def crowd(many):
+    """The web in which everybody holds all cards."""
+    return tuple(tuple(w for w in range(many) if w != u) for u in range(many))
+
+
+def web_of(many, links):
+    """The web with just these pairs of a person and a card of theirs."""
+    return tuple(tuple(w for w in range(many) if (u, w) in links) for u in range(many))
+
+
+def model_lots(many, links):
+    """The classes of people who find each other by links, as the points tell lots."""
+    found = model_found(many, links)
+    lots = {
+        tuple(w for w in range(many) if w in found[u] and u in found[w]) for u in range(many)
+    }
+    return tuple(sorted(lots))
+
+
+def model_pieces(web):
+    """The pieces of a web: the lots of people whom links join that lead both ways."""
+    links = links_of(web)
+    return model_lots(len(web), links | {(w, u) for u, w in links})
+
+
+def model_led(web, turning, let=None):
+    """For each web without letters to which rows of deeds lead the fewest deeds: through all standings.
+
+    A standing is here an integer: a bit for each card, and for each letter one more. With let, only
+    letters of these pairs are sent.
+    """
+    many = len(web)
+    pairs = [(u, w) for u in range(many) for w in range(many) if u != w]
+    bit = {("card", pair): 1 << k for k, pair in enumerate(pairs)}
+    bit.update({("way", pair): 1 << len(pairs) + k for k, pair in enumerate(pairs)})
+    steps = []
+    for word, *people in right_deeds(range(many)):
+        if word == "come":
+            letter = bit["way", tuple(people)]
+            steps.append((letter, letter, bit["card", tuple(people)]))
+        if word == "turn" and turning:
+            card = bit["card", tuple(people)]
+            steps.append((card, card, bit["way", (people[1], people[0])]))
+        if word in ("show", "give"):
+            u, v, w = people
+            card = bit["card", (u, w)] if u != w else 0
+            if let is None or (v, w) in let:
+                loses = card if word == "give" else 0
+                steps.append((bit["card", (u, v)] | card, loses, bit["way", (v, w)]))
+    far = {sum(bit["card", pair] for pair in links_of(web)): 0}
+    row = list(far)
+    for standing in row:
+        for needs, loses, gains in steps:
+            if standing & needs == needs:
+                then = (standing & ~loses) | gains
+                if then not in far:
+                    far[then] = far[standing] + 1
+                    row.append(then)
+    return {
+        web_of(many, [pair for pair in pairs if standing & bit["card", pair]]): fewest
+        for standing, fewest in far.items() if standing < 1 << len(pairs)
+    }
+
+
+def model_full(web, wish):
+    """What full tells: shows are done, any that may be, until none brings a new card."""
+    many = len(web)
+    let = model_found(many, links_of(wish))
+    links = links_of(web)
+    if any(w not in let[u] for u, row in enumerate(model_found(many, links)) for w in row):
+        return None
+    while True:
+        new = {
+            (v, w) for u, v in links for w in range(many)
+            if (w == u or (u, w) in links) and w != v and w in let[v]
+        }
+        if new <= links:
+            return web_of(many, links)
+        links = links | new
+
+
+def model_lack(web, wish):
+    """What lack tells."""
+    many = len(web)
+    found, let = model_found(many, links_of(web)), model_found(many, links_of(wish))
+    lost = [(u, w) for u in range(many) for w in found[u] if w not in let[u]]
+    if lost:
+        return ("found", *min(lost))
+    missing = links_of(wish) - links_of(model_full(web, wish))
+    return ("card", *min(missing)) if missing else None
+
+
+def shapes(most):
+    """All shapes of together 1 to so many cards."""
+    return [
+        (below, total - below) for total in range(1, most + 1) for below in range(total + 1)
+    ]
+
+
+def drawn_pair(draw, many, keeps):
+    """Something right to keep and send of so many cards, each card kept at a chance."""
+    kept = tuple(k for k in range(many) if draw.random() < keeps)
+    sent = [
+        (to, what) for to in range(many) for what in range(-1, many)
+        if to != what and draw.random() < 0.4
+    ]
+    return (kept, tuple(sorted(sent)))
+
+
+def drawn_rows(draw, most, keeps, chance):
+    """Right rows of a rule: each shape at a chance, each card kept at a chance."""
+    return {
+        shape: drawn_pair(draw, sum(shape), keeps) for shape in shapes(most) if draw.random() < chance
+    }
+
+
+def model_act(standing, u, rows):
+    """The standing behind an act by these rows, as the point tells it."""
+    web, letters = standing
+    lesser = [w for w in web[u] if w < u]
+    greater = [w for w in web[u] if w > u]
+    row = rows.get((len(lesser), len(greater)))
+    if row is None:
+        return standing
+    people = {at: w for at, w in enumerate(lesser + greater)}
+    people[-1] = u
+    cards = {(x, w) for x, w in links_of(web) if x != u}
+    cards |= {(u, people[at]) for at in row[0]}
+    on_the_way = set(letters) | {(people[to], people[what]) for to, what in row[1]}
+    return (web_of(len(web), cards), tuple(sorted(on_the_way)))
+
+
+def ring(many):
+    """The web in which everybody holds the next one's card, the last one the first one's."""
+    return tuple(((u + 1) % many,) for u in range(many))
+
+
+def line(many):
+    """The web in which everybody but the last one holds the next one's card."""
+    return tuple((u + 1,) if u + 1 < many else () for u in range(many))
+
+
+def bare(many):
+    """The web without cards."""
+    return ((),) * many
+
+
+def wrong_webs():
+    """What is no web, though it looks like one."""
+    return [
+        (),
+        bare(10), line(10), ring(10), ((),) * 100,
+        ((0,),), ((0, 1), ()), ((), (0, 1)), ((), (1,)), ((1,), (0,), (0, 1, 2)),
+        ((1,),), ((2,), ()), ((), (2,)), ((9,),) + bare(8), ((10 ** 999,), ()), ((1, 2), ()),
+        ((-1,), ()), ((), (-1, 0)), ((-(10 ** 999),), ()), ((-1, 1), ()),
+        ((1, 1), ()), ((1, 1, 2), (), ()), ((1, 2, 2), (), ()), ((), (), (0, 0)),
+        ((2, 1), (), ()), ((), (2, 0), ()), ((1, 3, 2), (), (), ()), ((2, 1, 3), (), (), ()),
+        ((True,), ()), ((), (False,)), ((True, 2), (), ()), ((), (False, 2), ()),
+        [(1,), (0,)], ([1], (0,)), ((1,), [0]), ((1,), []), [[], []], ({}, ()), ((), {}),
+        ({1: 1}, ()), ("", ""), ("1", ()), (("1",), ()), ((None,), ()), (None, ()), ((), None),
+        (((),), ()), (((1,),), ()), (([1],), ()), ((1, None), ()), ((1, "2"), (), ()), (1, 0),
+        (True, False), (0,), 5, "web", (((1,), ()), ()), {0: (1,), 1: ()},
+        ((1, [2]), (), ()), ((1, (2,)), (), ()), ((nested(28, lambda x: (x,)),), ()),
+        (nested(29, lambda x: [x]), ()), (tuple(range(1, 90000)), ()), ((1,) * 90000, ()),
+        ((NoWeb(),), ()), (NoWeb(), ()),
+    ]

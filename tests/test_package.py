@@ -16,6 +16,30 @@ FUNCTIONS = {
         "is_standing": ["thing"], "found": ["standing"],
         "fault": ["standing", "row", "turning"], "behind": ["standing", "row", "turning"],
     },
+    "wishes": {
+        "leads": ["web", "wish", "turning"], "is_script": ["web", "wish", "turning", "thing"],
+        "script": ["web", "wish", "turning"], "full": ["web", "wish"], "lack": ["web", "wish"],
+        "fewest": ["web", "wish", "turning"],
+    },
+    "kinship": {
+        "are_kin": ["one", "other"], "least_cards": ["web"], "least_web": ["web"], "kin": ["web"],
+    },
+    "rules": {
+        "small_web": ["rule", "shape"], "lost": ["rule"], "lost_web": ["rule"],
+        "is_lost": ["rule", "thing"], "as_deeds": ["rule", "shape"],
+        "taken": ["function", "most"], "levelling": ["most"],
+    },
+}
+
+# For each class the arguments with which it is made, and its methods with theirs.
+CLASSES = {
+    "rules": {"Rule": (["most", "rows"], {"table": [], "__eq__": ["other"]})},
+    "town": {
+        "Town": (["web", "rules"], {
+            "act": ["u"], "come": ["v", "w"], "deed": ["deed"], "enter": ["friend", "rule"], "web": [],
+            "letters": [], "found": [], "rests": [], "settle": ["most"], "log": [], "back": [], "copy": [],
+        }),
+    },
 }
 
 # Beside the package's own modules: these of the library do nothing but work on values.
@@ -37,6 +61,18 @@ class InterfaceTest(unittest.TestCase):
                     self.assertTrue(inspect.isfunction(function))
                     self.assertEqual(function.__module__, loaded.__name__)
                     self.assertEqual(list(inspect.signature(function).parameters), arguments)
+
+    def test_classes_and_their_methods_stand_where_they_are_listed(self):
+        for module, classes in CLASSES.items():
+            loaded = importlib.import_module(f"stillfound.{module}")
+            for name, (made_with, methods) in classes.items():
+                made = getattr(loaded, name)
+                self.assertTrue(inspect.isclass(made))
+                self.assertEqual(made.__module__, loaded.__name__)
+                for method, arguments in {"__init__": made_with, **methods}.items():
+                    with self.subTest(name, method=method):
+                        function = vars(made)[method]
+                        self.assertEqual(list(inspect.signature(function).parameters), ["self", *arguments])
 
 
 class FilesTest(unittest.TestCase):

@@ -6,57 +6,10 @@ from itertools import product
 
 from stillfound.errors import NoWeb
 from stillfound.webs import finds, is_web, knots, pieces
-from tests.helper import all_webs, drawn_web, links_of, model_found, nested, odd_things
-
-
-def ring(many):
-    """The web in which everybody holds the next one's card, the last one the first one's."""
-    return tuple(((u + 1) % many,) for u in range(many))
-
-
-def line(many):
-    """The web in which everybody but the last one holds the next one's card."""
-    return tuple((u + 1,) if u + 1 < many else () for u in range(many))
-
-
-def crowd(many):
-    """The web in which everybody holds all cards."""
-    return tuple(tuple(w for w in range(many) if w != u) for u in range(many))
-
-
-def bare(many):
-    """The web without cards."""
-    return ((),) * many
-
-
-def model_lots(many, links):
-    """The classes of people who find each other by links, as the points tell lots."""
-    found = model_found(many, links)
-    lots = {
-        tuple(w for w in range(many) if w in found[u] and u in found[w]) for u in range(many)
-    }
-    return tuple(sorted(lots))
-
-
-def wrong_webs():
-    """What is no web, though it looks like one."""
-    return [
-        (),
-        bare(10), line(10), ring(10), ((),) * 100,
-        ((0,),), ((0, 1), ()), ((), (0, 1)), ((), (1,)), ((1,), (0,), (0, 1, 2)),
-        ((1,),), ((2,), ()), ((), (2,)), ((9,),) + bare(8), ((10 ** 999,), ()), ((1, 2), ()),
-        ((-1,), ()), ((), (-1, 0)), ((-(10 ** 999),), ()), ((-1, 1), ()),
-        ((1, 1), ()), ((1, 1, 2), (), ()), ((1, 2, 2), (), ()), ((), (), (0, 0)),
-        ((2, 1), (), ()), ((), (2, 0), ()), ((1, 3, 2), (), (), ()), ((2, 1, 3), (), (), ()),
-        ((True,), ()), ((), (False,)), ((True, 2), (), ()), ((), (False, 2), ()),
-        [(1,), (0,)], ([1], (0,)), ((1,), [0]), ((1,), []), [[], []], ({}, ()), ((), {}),
-        ({1: 1}, ()), ("", ""), ("1", ()), (("1",), ()), ((None,), ()), (None, ()), ((), None),
-        (((),), ()), (((1,),), ()), (([1],), ()), ((1, None), ()), ((1, "2"), (), ()), (1, 0),
-        (True, False), (0,), 5, "web", (((1,), ()), ()), {0: (1,), 1: ()},
-        ((1, [2]), (), ()), ((1, (2,)), (), ()), ((nested(28, lambda x: (x,)),), ()),
-        (nested(29, lambda x: [x]), ()), (tuple(range(1, 90000)), ()), ((1,) * 90000, ()),
-        ((NoWeb(),), ()), (NoWeb(), ()),
-    ]
+from tests.helper import (
+    all_webs, bare, crowd, drawn_web, line, links_of, model_found, model_lots, nested, odd_things,
+    ring, wrong_webs,
+)
 
 
 class IsWebTest(unittest.TestCase):
