@@ -92,10 +92,11 @@ def widened(web, wish):
 def spread(web, allowed):
     """All shows that bring new cards of people who are allowed, each letter coming, and the web behind."""
     row = []
+    many = len(web)
     before = None
     while web != before:
         before = web
-        for u in range(len(web)):
+        for u in range(many):
             for v, w in news(web, u, allowed):
                 row += [("show", u, v, w), ("come", v, w)]
                 web = with_card(web, v, w)
