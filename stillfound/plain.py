@@ -1,5 +1,7 @@
 """What plain values are: integers, people, what is ascending."""
 
+from stillfound.errors import NoPerson
+
 
 def is_integer(thing):
     """Whether a thing is an integer; a flag is none, though Python says so."""
@@ -14,6 +16,12 @@ def is_between(thing, least, most):
 def is_person(thing, many):
     """Whether a thing is one of so many people."""
     return is_between(thing, 0, many - 1)
+
+
+def check_person(thing, many):
+    """Raise NoPerson for what is none of so many people."""
+    if not is_person(thing, many):
+        raise NoPerson()
 
 
 def is_ascending(row):

@@ -1,8 +1,8 @@
 """Towns: people who act by rules, in any order, with all that was done there."""
 
 from stillfound.deeds import arrived, done, is_deed, is_let, is_letter
-from stillfound.errors import Full, NoDeed, NoLetter, NoNumber, NoPerson, NothingDone
-from stillfound.plain import is_between, is_person
+from stillfound.errors import Full, NoDeed, NoLetter, NoNumber, NothingDone
+from stillfound.plain import check_person, is_between
 from stillfound.rules import acted, check_rule, check_rules
 from stillfound.webs import MOST_PEOPLE, all_found, check_web
 
@@ -22,7 +22,7 @@ class Town:
 
     def act(self, u):
         """Let u act by the own rule; returns whether the standing changed."""
-        self._check_person(u)
+        check_person(u, len(self._rules))
         behind = acted(self._standing, u, self._rules[u])
         if behind == self._standing:
             return False
@@ -44,7 +44,7 @@ class Town:
 
     def enter(self, friend, rule):
         """Let a new person come, with the friend's card; returns the number."""
-        self._check_person(friend)
+        check_person(friend, len(self._rules))
         check_rule(rule)
         number = len(self._rules)
         if number == MOST_PEOPLE:
@@ -85,26 +85,30 @@ class Town:
 
     def back(self):
         """Take back the last item of the log."""
-        if not self._past:
-            raise NothingDone()
-        _, self._standing, self._rules = self._past.pop()
+        self._taken_back()
 
     def copy(self):
         """A town that goes on apart, with all that can be taken back."""
         other = Town(self.web(), self._rules)
-        other._standing = self._standing
-        other._past = list(self._past)
+        self._copy_to(other)
         return other
-
-    def _check_person(self, thing):
-        """Raise NoPerson for what is nobody here."""
-        if not is_person(thing, len(self._rules)):
-            raise NoPerson()
 
     def _go_on(self, item, standing):
         """Put an item into the log, with the standing behind it."""
         self._past.append((item, self._standing, self._rules))
         self._standing = standing
+
+    def _taken_back(self):
+        """Take back the last item of the log; returns the item."""
+        if not self._past:
+            raise NothingDone()
+        item, self._standing, self._rules = self._past.pop()
+        return item
+
+    def _copy_to(self, other):
+        """Let a new town of the same rules stand where this one does, with all that can be taken back."""
+        other._standing = self._standing
+        other._past = list(self._past)
 
     def _step(self):
         """Let the least letter come, or the least person act whose act changes something; returns whether."""

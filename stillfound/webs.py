@@ -76,6 +76,13 @@ def all_found(pockets):
     return tuple([found_from(pockets, u) for u in range(len(pockets))])
 
 
+def without(pockets, gone):
+    """These pockets where some people have vanished: their cards, and what they hold."""
+    return tuple([
+        () if u in gone else tuple([w for w in pocket if w not in gone]) for u, pocket in enumerate(pockets)
+    ])
+
+
 def both_ways(pockets):
     """These pockets with, for each card, also one that leads back."""
     linked = [list(pocket) for pocket in pockets]

@@ -2,7 +2,9 @@
 
 from itertools import combinations, product
 
-from stillfound.errors import NoWeb
+from stillfound.deeds import found
+from stillfound.errors import NoRules, NoWeb
+from stillfound.rules import Rule, levelling
 
 
 def nested(depth, around):
@@ -286,3 +288,224 @@ def wrong_webs():
         (nested(29, lambda x: [x]), ()), (tuple(range(1, 90000)), ()), ((1,) * 90000, ()),
         ((NoWeb(),), ()), (NoWeb(), ()),
     ]
+
+
+ODD_PEOPLE = [
+    -1, 10 ** 999, -(10 ** 999), True, False, None, "0", "", (), (0,), [], [0], {}, {0: 0}, NoWeb(),
+    nested(30, lambda x: [x]),
+]
+
+# Whoever holds one card tells that person the own one; two greater ones are told of one another.
+TELLS = Rule(2, {(0, 1): ((0,), ((0, -1),)), (1, 0): ((0,), ((0, -1),)), (0, 2): ((0,), ((0, 1),))})
+
+
+def told(town):
+    """All that a town tells."""
+    return town.web(), town.letters(), town.found(), town.rests(), town.log()
+
+
+def wrong_rules(many):
+    """What is no tuple of rules for so many people."""
+    rule = levelling(2)
+    return [
+        [None] * many, (None,) * (many + 1), (None,) * (many - 1), (rule,) * (many + 1), [rule] * many,
+        None, (), rule, (*(None,) * (many - 1), 0), (*(rule,) * (many - 1), True),
+        (False, *(None,) * (many - 1)), ("", *(None,) * (many - 1)), (*(None,) * (many - 1), rule.table()),
+        (*(None,) * (many - 1), ()), ((), *(None,) * (many - 1)), (NoRules(), *(rule,) * (many - 1)), {}, "", 5,
+        ((None,) * many,) if many > 1 else ((None,),), (*(None,) * (many - 1), [rule]), {k: None for k in range(many)},
+        (*(None,) * (many - 1), nested(28, lambda x: [x])), (None,) * 90000, nested(30, lambda x: (x,)),
+    ]
+
+
+class ModelTown:
+    """A town by the words of the point, by a second way of acts and deeds."""
+
+    def __init__(self, web, rows):
+        self.standing = (web, ())
+        self.rows = rows
+        self.past = []
+
+    def behind(self, u):
+        """The standing behind an act of u."""
+        return self.standing if self.rows[u] is None else model_act(self.standing, u, self.rows[u])
+
+    def keep(self, item, standing, rows=None):
+        """Put down an item and go on to a standing."""
+        self.past.append((item, self.standing, self.rows))
+        self.standing = standing
+        self.rows = self.rows if rows is None else rows
+
+    def act(self, u):
+        """As town.act."""
+        changed = self.behind(u) != self.standing
+        if changed:
+            self.keep(("act", u), self.behind(u))
+        return changed
+
+    def does(self, deed):
+        """As town.come and town.deed; returns whether the deed can be done."""
+        model = Model(self.standing)
+        if not model.lets(deed):
+            return False
+        model.does(deed)
+        self.keep(deed, model.standing())
+        return True
+
+    def enter(self, friend, rows):
+        """As town.enter, where there is room."""
+        web, letters = self.standing
+        self.keep(("enter", friend), ((*web, (friend,)), letters), [*self.rows, rows])
+
+    def rests(self):
+        """As town.rests."""
+        return not self.standing[1] and not any(
+            self.behind(u) != self.standing for u in range(len(self.rows))
+        )
+
+    def settle(self, most):
+        """As town.settle."""
+        many = 0
+        while many < most and not self.rests():
+            if self.standing[1]:
+                self.does(("come", *min(self.standing[1])))
+            else:
+                self.act(min(u for u in range(len(self.rows)) if self.behind(u) != self.standing))
+            many += 1
+        return many
+
+    def back(self):
+        """As town.back, where there is something."""
+        _, self.standing, self.rows = self.past.pop()
+
+    def copy(self):
+        """As town.copy."""
+        other = ModelTown(self.standing[0], self.rows)
+        other.standing, other.past = self.standing, list(self.past)
+        return other
+
+    def told(self):
+        """All that the town tells."""
+        log = [item for item, *_ in self.past]
+        return *self.standing, found(self.standing), self.rests(), log
+
+
+def rules_of(rows):
+    """The rules with these rows, one for each person, or None."""
+    return tuple(None if lot is None else Rule(8, lot) for lot in rows)
+
+
+def model_next(web, u, t):
+    """To whom a note with u for t goes on: of those on the way the nearest to t; None if there is none."""
+    nearer = [w for w in web[u] if min(u, t) <= w <= max(u, t)]
+    return min(nearer, key=lambda w: abs(w - t)) if nearer else None
+
+
+def model_moves(state, rows):
+    """All moves of a standing and notes, as the points tell them, each with what is behind it."""
+    standing, notes = state
+    told = []
+    for u, lot in enumerate(rows):
+        then = standing if lot is None else model_act(standing, u, lot)
+        if then != standing:
+            told.append((("act", u), (then, notes)))
+    for letter in standing[1]:
+        model = Model(standing)
+        model.does(("come", *letter))
+        told.append((("come", *letter), (model.standing(), notes)))
+    for number, (place, u, t) in enumerate(notes):
+        w = u if place == "way" else model_next(standing[0], u, t)
+        if w is not None:
+            move, note = (("land", number), ("with", u, t)) if place == "way" else (("carry", number), ("way", w, t))
+            told.append((move, (standing, notes[:number] + (note,) + notes[number + 1:])))
+    return told
+
+
+def model_start(web, notes=()):
+    """The state of a web without letters and with notes from and for these."""
+    return ((web, ()), tuple(("with", u, t) for u, t in notes))
+
+
+def model_runs(web, rows, notes=(), most=None):
+    """For each state of all runs its moves, or None if there are more states than the most."""
+    start = model_start(web, notes)
+    told = {}
+    open_states = [start]
+    while open_states:
+        state = open_states.pop()
+        if state not in told:
+            told[state] = model_moves(state, rows)
+            open_states += [behind for _, behind in told[state]]
+        if most is not None and len(told) > most:
+            return None
+    return told
+
+
+def model_lasts(told):
+    """Whether one of these runs goes on for ever: whether states are left of which each leads to one that is left."""
+    left = set(told)
+    while True:
+        still = {state for state in left if any(behind in left for _, behind in told[state])}
+        if still == left:
+            return bool(left)
+        left = still
+
+
+def model_walk(state, rows, thing):
+    """Where a thing leads if it is a tuple of moves that can be made in turn, or None."""
+    if type(thing) is not tuple:
+        return None
+    for move in thing:
+        # A flag shows itself by how it is written.
+        fits = [behind for other, behind in model_moves(state, rows) if repr(other) == repr(move)]
+        if not fits:
+            return None
+        state = fits[0]
+    return state
+
+
+def bent_moves(draw, moves, many):
+    """What stands near a tuple of moves: moves changed, left out, put in, exchanged, and other kinds of things."""
+    others = [("act", draw.randrange(many)), ("act", many), ("act", -1), ("act", True), ("act", 0, 0), ("act",), ()]
+    others += [("come", draw.randrange(many), draw.randrange(many)), ("come", 0), ("come", 0, many), ("come", 1, True)]
+    others += [("carry", 0), ("land", 0), ("carry", 1), ("land", -1), ("carry", False), ["act", 0], "act 0", None, 0]
+    others += [("show", 0, 1, 0), ("enter", 0), ("send", 0, 1), (0, "act"), ("Act", 0), ("act", "0"), ("act", [0]), []]
+    told = [list(moves), list(map(list, moves)), None, True, 0, "", {}, NoWeb(), (moves,), dict(enumerate(moves))]
+    for other in others:
+        at = draw.randint(0, len(moves))
+        told.append((*moves[:at], other, *moves[at:]))
+        told.append((*moves[:at], other, *moves[at + 1:]))
+    for at, (word, *numbers) in enumerate(moves):
+        told.append(moves[:at] + moves[at + 1:])
+        told.append((*moves[:at], moves[at], *moves[at:]))
+        told.append((*moves[:at], (word, *[bool(k) for k in numbers]), *moves[at + 1:]))
+        told.append((*moves[:at], [word, *numbers], *moves[at + 1:]))
+        told.append((*moves[:at], (word, *numbers[::-1]), *moves[at + 1:]))
+        told.append(moves[:at] + moves[at:][::-1])
+    return told
+
+
+def beside(*towns):
+    """The web and the rows of several towns beside one another, none knowing of the other ones."""
+    webs, rows = [], []
+    for web, lot in towns:
+        webs += [tuple(w + len(rows) for w in pocket) for pocket in web]
+        rows += lot
+    return tuple(webs), rows
+
+
+# A town of three with runs through just 500 standings, and a pair with ten: beside one another 5000.
+HALF_THOUSAND = (
+    ((1, 2), (), (1,)),
+    [{(0, 2): ((1,), ((1, -1), (1, 0)))}, {}, {(1, 0): ((0,), ((0, -1),)), (2, 0): ((0,), ((0, 1), (1, 0)))}],
+)
+TEN = (((1,), ()), [{(0, 1): ((), ((0, -1),))}, {(1, 0): ((0,), ((0, -1),))}])
+TWO = (((1,), ()), [{(0, 1): ((), ())}, None])
+ONE_TOO_MANY = (
+    ((1, 3), (2,), (0,), (1, 2)),
+    [
+        {(0, 2): ((0,), ((1, -1), (1, 0)))},
+        {(0, 1): ((), ()), (0, 2): ((0, 1), ((1, 0),))},
+        {(0, 1): ((0,), ((0, -1),)), (1, 1): ((1,), ((0, 1),)), (2, 0): ((), ((1, -1),))},
+        {(2, 0): ((0, 1), ((0, -1), (0, 1), (1, -1), (1, 0)))},
+    ],
+)

@@ -29,15 +29,29 @@ FUNCTIONS = {
         "is_lost": ["rule", "thing"], "as_deeds": ["rule", "shape"],
         "taken": ["function", "most"], "levelling": ["most"],
     },
+    "allruns": {
+        "rests": ["web", "rules"], "endless": ["web", "rules"], "is_endless": ["web", "rules", "thing"],
+        "sure": ["web", "rules"],
+    },
+    "allposts": {
+        "strand": ["web", "rules", "notes"], "is_strand": ["web", "rules", "notes", "thing"],
+        "is_straight": ["web"], "hops": ["web", "u", "t"], "farthest": ["web"], "fewest_far": ["many", "most"],
+    },
+    "farewells": {"is_spare": ["standing", "x"], "spare": ["web"], "farewell": ["standing", "x"]},
+}
+
+TOWN = {
+    "act": ["u"], "come": ["v", "w"], "deed": ["deed"], "enter": ["friend", "rule"], "web": [],
+    "letters": [], "found": [], "rests": [], "settle": ["most"], "log": [], "back": [], "copy": [],
 }
 
 # For each class the arguments with which it is made, and its methods with theirs.
 CLASSES = {
     "rules": {"Rule": (["most", "rows"], {"table": [], "__eq__": ["other"]})},
-    "town": {
-        "Town": (["web", "rules"], {
-            "act": ["u"], "come": ["v", "w"], "deed": ["deed"], "enter": ["friend", "rule"], "web": [],
-            "letters": [], "found": [], "rests": [], "settle": ["most"], "log": [], "back": [], "copy": [],
+    "town": {"Town": (["web", "rules"], TOWN)},
+    "post": {
+        "Post": (["web", "rules"], {
+            **TOWN, "send": ["u", "t"], "carry": ["number"], "land": ["number"], "notes": [], "delivered": [],
         }),
     },
 }

@@ -11,109 +11,15 @@ from stillfound.errors import (
 from stillfound.rules import Rule, levelling
 from stillfound.town import Town
 from tests.helper import (
-    Model, bare, crowd, drawn_rows, drawn_web, line, model_act, nested, odd_things, right_deeds, ring, wrong_webs,
+    ODD_PEOPLE, TELLS, ModelTown, bare, crowd, drawn_rows, drawn_web, line, odd_things, right_deeds,
+    ring, told, wrong_rules, wrong_webs,
 )
-
-ODD_PEOPLE = [
-    -1, 10 ** 999, -(10 ** 999), True, False, None, "0", "", (), (0,), [], [0], {}, {0: 0}, NoWeb(),
-    nested(30, lambda x: [x]),
-]
-
-# Whoever holds one card tells that person the own one; two greater ones are told of one another.
-TELLS = Rule(2, {(0, 1): ((0,), ((0, -1),)), (1, 0): ((0,), ((0, -1),)), (0, 2): ((0,), ((0, 1),))})
-
-
-def told(town):
-    """All that a town tells."""
-    return town.web(), town.letters(), town.found(), town.rests(), town.log()
-
-
-def wrong_rules(many):
-    """What is no tuple of rules for so many people."""
-    rule = levelling(2)
-    return [
-        [None] * many, (None,) * (many + 1), (None,) * (many - 1), (rule,) * (many + 1), [rule] * many,
-        None, (), rule, (*(None,) * (many - 1), 0), (*(rule,) * (many - 1), True),
-        (False, *(None,) * (many - 1)), ("", *(None,) * (many - 1)), (*(None,) * (many - 1), rule.table()),
-        (*(None,) * (many - 1), ()), ((), *(None,) * (many - 1)), (NoRules(), *(rule,) * (many - 1)), {}, "", 5,
-        ((None,) * many,) if many > 1 else ((None,),), (*(None,) * (many - 1), [rule]), {k: None for k in range(many)},
-        (*(None,) * (many - 1), nested(28, lambda x: [x])), (None,) * 90000, nested(30, lambda x: (x,)),
-    ]
-
-
-class ModelTown:
-    """A town by the words of the point, by a second way of acts and deeds."""
-
-    def __init__(self, web, rows):
-        self.standing = (web, ())
-        self.rows = rows
-        self.past = []
-
-    def behind(self, u):
-        """The standing behind an act of u."""
-        return self.standing if self.rows[u] is None else model_act(self.standing, u, self.rows[u])
-
-    def keep(self, item, standing, rows=None):
-        """Put down an item and go on to a standing."""
-        self.past.append((item, self.standing, self.rows))
-        self.standing = standing
-        self.rows = self.rows if rows is None else rows
-
-    def act(self, u):
-        """As town.act."""
-        changed = self.behind(u) != self.standing
-        if changed:
-            self.keep(("act", u), self.behind(u))
-        return changed
-
-    def does(self, deed):
-        """As town.come and town.deed; returns whether the deed can be done."""
-        model = Model(self.standing)
-        if not model.lets(deed):
-            return False
-        model.does(deed)
-        self.keep(deed, model.standing())
-        return True
-
-    def enter(self, friend, rows):
-        """As town.enter, where there is room."""
-        web, letters = self.standing
-        self.keep(("enter", friend), ((*web, (friend,)), letters), [*self.rows, rows])
-
-    def rests(self):
-        """As town.rests."""
-        return not self.standing[1] and not any(
-            self.behind(u) != self.standing for u in range(len(self.rows))
-        )
-
-    def settle(self, most):
-        """As town.settle."""
-        many = 0
-        while many < most and not self.rests():
-            if self.standing[1]:
-                self.does(("come", *min(self.standing[1])))
-            else:
-                self.act(min(u for u in range(len(self.rows)) if self.behind(u) != self.standing))
-            many += 1
-        return many
-
-    def back(self):
-        """As town.back, where there is something."""
-        _, self.standing, self.rows = self.past.pop()
-
-    def copy(self):
-        """As town.copy."""
-        other = ModelTown(self.standing[0], self.rows)
-        other.standing, other.past = self.standing, list(self.past)
-        return other
-
-    def told(self):
-        """All that the town tells."""
-        log = [item for item, _, _ in self.past]
-        return *self.standing, found(self.standing), self.rests(), log
 
 
 class TownCase(unittest.TestCase):
+    # What the tests make: whatever is a Town must pass them.
+    made = Town
+
     def check_refused(self, town, error, call):
         """An error is raised, and nothing changes."""
         before = told(town)
@@ -127,45 +33,45 @@ class MadeTest(TownCase):
     def test_new_town(self):
         for many in range(1, 10):
             for web in (bare(many), line(many), crowd(many)):
-                town = Town(web, (None,) * many)
+                town = self.made(web, (None,) * many)
                 self.assertEqual(told(town), (web, (), found((web, ())), True, []))
-                self.assertEqual(Town(web, (levelling(8),) * many).web(), web)
+                self.assertEqual(self.made(web, (levelling(8),) * many).web(), web)
 
     def test_no_web(self):
         for thing in wrong_webs() + odd_things():
             with self.subTest(repr(thing)[:60]):
                 for rules in ((None, None), None, (None,), ()):
                     with self.assertRaises(NoWeb):
-                        Town(thing, rules)
+                        self.made(thing, rules)
 
     def test_no_rules(self):
         for many in (1, 2, 3, 9):
             for rules in wrong_rules(many):
                 with self.subTest(repr(rules)[:60]):
                     with self.assertRaises(NoRules):
-                        Town(line(many), rules)
+                        self.made(line(many), rules)
         for thing in odd_things():
             if thing != (None,):
                 with self.assertRaises(NoRules):
-                    Town(((),), thing)
+                    self.made(((),), thing)
 
     def test_rests(self):
-        self.assertIs(Town(((1,), ()), (None, None)).rests(), True)
-        self.assertIs(Town(((1,), ()), (TELLS, None)).rests(), False)
-        self.assertIs(Town(((1,), ()), (None, TELLS)).rests(), True)
-        self.assertIs(Town(((1, 2), (), ()), (levelling(1),) * 3).rests(), True)
-        self.assertIs(Town(((1, 2), (), ()), (levelling(2),) * 3).rests(), False)
-        self.assertIs(Town(((1, 2), (), ()), (None, None, levelling(2))).rests(), True)
+        self.assertIs(self.made(((1,), ()), (None, None)).rests(), True)
+        self.assertIs(self.made(((1,), ()), (TELLS, None)).rests(), False)
+        self.assertIs(self.made(((1,), ()), (None, TELLS)).rests(), True)
+        self.assertIs(self.made(((1, 2), (), ()), (levelling(1),) * 3).rests(), True)
+        self.assertIs(self.made(((1, 2), (), ()), (levelling(2),) * 3).rests(), False)
+        self.assertIs(self.made(((1, 2), (), ()), (None, None, levelling(2))).rests(), True)
 
     def test_letters_keep_a_town_from_rest(self):
-        town = Town(((1,), ()), (None, None))
+        town = self.made(((1,), ()), (None, None))
         town.deed(("show", 0, 1, 0))
         self.assertIs(town.rests(), False)
         town.come(1, 0)
         self.assertIs(town.rests(), True)
 
     def test_a_letter_that_an_act_would_send_again(self):
-        town = Town(((1,), ()), (TELLS, None))
+        town = self.made(((1,), ()), (TELLS, None))
         self.assertIs(town.act(0), True)
         self.assertIs(town.act(0), False)
         self.assertIs(town.rests(), False)
@@ -177,7 +83,7 @@ class MadeTest(TownCase):
 
 class ActTest(TownCase):
     def test_act_by_a_rule(self):
-        town = Town(((1, 2), (), ()), (TELLS,) * 3)
+        town = self.made(((1, 2), (), ()), (TELLS,) * 3)
         self.assertIs(town.act(0), True)
         self.assertEqual(told(town), (((1,), (), ()), ((1, 2),), ((0, 1, 2), (1, 2), (2,)), False, [("act", 0)]))
         self.assertIs(town.act(0), True)
@@ -185,7 +91,7 @@ class ActTest(TownCase):
         self.assertEqual(town.log(), [("act", 0), ("act", 0)])
 
     def test_act_that_changes_nothing(self):
-        town = Town(((1,), (), (0, 1)), (TELLS, TELLS, TELLS))
+        town = self.made(((1,), (), (0, 1)), (TELLS, TELLS, TELLS))
         self.assertIs(town.act(1), False)
         self.assertIs(town.act(2), False)
         self.assertEqual(town.log(), [])
@@ -195,19 +101,19 @@ class ActTest(TownCase):
         self.assertEqual(told(town), before)
 
     def test_act_without_a_rule_or_a_row(self):
-        town = Town(crowd(3), (None, Rule(8, {}), TELLS))
+        town = self.made(crowd(3), (None, Rule(8, {}), TELLS))
         for u in range(3):
             self.assertIs(town.act(u), False)
         self.assertEqual(told(town), (crowd(3), (), ((0, 1, 2),) * 3, True, []))
 
     def test_no_person(self):
         for many in (1, 2, 9):
-            town = Town(line(many), (TELLS,) * many)
+            town = self.made(line(many), (TELLS,) * many)
             for u in ODD_PEOPLE + [many, many + 1, 9]:
                 self.check_refused(town, NoPerson, lambda: town.act(u))
 
     def test_newcomers_act(self):
-        town = Town(((),), (None,))
+        town = self.made(((),), (None,))
         self.check_refused(town, NoPerson, lambda: town.act(1))
         town.enter(0, TELLS)
         self.assertIs(town.act(1), True)
@@ -216,7 +122,7 @@ class ActTest(TownCase):
 
 class ComeTest(TownCase):
     def test_a_letter_comes(self):
-        town = Town(((1, 2), (), ()), (None,) * 3)
+        town = self.made(((1, 2), (), ()), (None,) * 3)
         town.deed(("show", 0, 2, 1))
         town.deed(("show", 0, 1, 2))
         self.assertEqual(town.letters(), ((1, 2), (2, 1)))
@@ -226,14 +132,14 @@ class ComeTest(TownCase):
         self.assertEqual(town.log()[-1], ("come", 2, 1))
 
     def test_a_card_that_is_held_is_thrown_away(self):
-        town = Town(((1, 2), (2,), ()), (None,) * 3)
+        town = self.made(((1, 2), (2,), ()), (None,) * 3)
         town.deed(("show", 0, 1, 2))
         town.come(1, 2)
         self.assertEqual((town.web(), town.letters()), (((1, 2), (2,), ()), ()))
         self.assertEqual(town.log(), [("show", 0, 1, 2), ("come", 1, 2)])
 
     def test_no_letter(self):
-        town = Town(((1, 2), (), ()), (None,) * 3)
+        town = self.made(((1, 2), (), ()), (None,) * 3)
         self.check_refused(town, NoLetter, lambda: town.come(1, 0))
         town.deed(("show", 0, 1, 0))
         for v, w in product(range(-1, 4), repeat=2):
@@ -249,7 +155,7 @@ class ComeTest(TownCase):
 
 class DeedTest(TownCase):
     def test_each_deed(self):
-        town = Town(((1, 2), (), (0,)), (None,) * 3)
+        town = self.made(((1, 2), (), (0,)), (None,) * 3)
         self.assertIsNone(town.deed(("show", 0, 1, 2)))
         self.assertEqual((town.web(), town.letters()), (((1, 2), (), (0,)), ((1, 2),)))
         self.assertIsNone(town.deed(("give", 0, 2, 1)))
@@ -259,7 +165,7 @@ class DeedTest(TownCase):
         self.assertEqual(town.log(), [("show", 0, 1, 2), ("give", 0, 2, 1), ("turn", 2, 0)])
 
     def test_a_deed_that_changes_nothing_stands_in_the_log(self):
-        town = Town(((1,), ()), (None, None))
+        town = self.made(((1,), ()), (None, None))
         for many in (1, 2, 3):
             town.deed(("show", 0, 1, 0))
             self.assertEqual(town.log(), [("show", 0, 1, 0)] * many)
@@ -270,7 +176,7 @@ class DeedTest(TownCase):
         self.assertEqual((town.letters(), town.log()), ((), []))
 
     def test_no_deed(self):
-        town = Town(((1, 2), (), (0,)), (None,) * 3)
+        town = self.made(((1, 2), (), (0,)), (None,) * 3)
         town.deed(("show", 0, 1, 2))
         right = {("show", 0, 1, 0), ("show", 0, 1, 2), ("show", 0, 2, 0), ("show", 0, 2, 1), ("give", 0, 1, 2)}
         right |= {("give", 0, 2, 1), ("turn", 0, 1), ("turn", 0, 2), ("turn", 2, 0), ("show", 2, 0, 2)}
@@ -284,12 +190,12 @@ class DeedTest(TownCase):
                 self.check_refused(town, NoDeed, lambda: town.deed(deed))
 
     def test_letters_dont_come_by_hand(self):
-        town = Town(((1,), ()), (None, None))
+        town = self.made(((1,), ()), (None, None))
         town.deed(("show", 0, 1, 0))
         self.check_refused(town, NoDeed, lambda: town.deed(("come", 1, 0)))
 
     def test_things_that_are_no_deeds(self):
-        town = Town(crowd(3), (None,) * 3)
+        town = self.made(crowd(3), (None,) * 3)
         wrong = [
             ["show", 0, 1, 2], ("show", 0, 1), ("show", 0, 1, 2, 0), ("show", 0, 0, 1), ("show", 0, 1, 1),
             ("give", 0, 1, 0), ("give", 0, 0, 1), ("give", 0, 1), ("turn", 0, 0), ("turn", 0), ("turn", 0, 1, 2),
@@ -304,7 +210,7 @@ class DeedTest(TownCase):
 
 class EnterTest(TownCase):
     def test_up_to_nine(self):
-        town = Town(((),), (None,))
+        town = self.made(((),), (None,))
         for number in range(1, 9):
             friend = number // 2
             self.assertEqual(town.enter(friend, TELLS if number % 2 else None), number)
@@ -319,17 +225,17 @@ class EnterTest(TownCase):
         self.assertEqual(town.enter(7, None), 8)
 
     def test_a_full_town_from_the_start(self):
-        town = Town(ring(9), (None,) * 9)
+        town = self.made(ring(9), (None,) * 9)
         self.check_refused(town, Full, lambda: town.enter(0, None))
 
     def test_letters_and_cards_stay(self):
-        town = Town(((1,), (), ()), (None,) * 3)
+        town = self.made(((1,), (), ()), (None,) * 3)
         town.deed(("show", 0, 1, 0))
         self.assertIs(type(town.enter(1, None)), int)
         self.assertEqual((town.web(), town.letters()), (((1,), (), (), (1,)), ((1, 0),)))
 
     def test_rule_of_the_newcomer(self):
-        town = Town(((),), (None,))
+        town = self.made(((),), (None,))
         town.enter(0, None)
         self.assertIs(town.act(1), False)
         town.back()
@@ -339,7 +245,7 @@ class EnterTest(TownCase):
     def test_errors_in_their_order(self):
         odd_rules = [thing for thing in odd_things() if thing is not None] + [(TELLS,), (None,), TELLS.table(), [TELLS]]
         for many in (1, 3, 9):
-            town = Town(line(many), (None,) * many)
+            town = self.made(line(many), (None,) * many)
             for friend in ODD_PEOPLE + [many, many + 1]:
                 for rule in (None, TELLS, 0, False):
                     self.check_refused(town, NoPerson, lambda: town.enter(friend, rule))
@@ -349,24 +255,24 @@ class EnterTest(TownCase):
 
 class SettleTest(TownCase):
     def test_order(self):
-        town = Town(((1, 2), (), ()), (levelling(2),) * 3)
+        town = self.made(((1, 2), (), ()), (levelling(2),) * 3)
         self.assertEqual(town.settle(10000), 3)
         self.assertEqual(town.log(), [("act", 0), ("come", 1, 2), ("come", 2, 1)])
         self.assertEqual((town.web(), town.rests()), (((1,), (2,), (1,)), True))
 
     def test_the_least_letter_and_the_least_person(self):
-        town = Town(((2,), (2,), ()), (None, TELLS, None))
+        town = self.made(((2,), (2,), ()), (None, TELLS, None))
         town.deed(("turn", 0, 2))
         town.deed(("turn", 1, 2))
         self.assertEqual(town.letters(), ((2, 0), (2, 1)))
         town.settle(1)
         self.assertEqual(town.log()[-1], ("come", 2, 0))
-        town = Town(((), (0,), (0,)), (TELLS,) * 3)
+        town = self.made(((), (0,), (0,)), (TELLS,) * 3)
         self.assertEqual(town.settle(2), 2)
         self.assertEqual(town.log(), [("act", 1), ("come", 0, 1)])
 
     def test_at_most_so_many_times(self):
-        town = Town(((1,), ()), (TELLS, None))
+        town = self.made(((1,), ()), (TELLS, None))
         self.assertEqual(town.settle(0), 0)
         self.assertEqual(town.log(), [])
         for most in (1, 2, 3, 7):
@@ -377,14 +283,14 @@ class SettleTest(TownCase):
         self.assertEqual(town.settle(10000), 10000)
 
     def test_a_town_that_rests(self):
-        town = Town(line(4), (levelling(8),) * 4)
+        town = self.made(line(4), (levelling(8),) * 4)
         self.assertIs(type(town.settle(10000)), int)
         self.assertEqual(town.settle(10000), 0)
         self.assertEqual(town.settle(0), 0)
 
     def test_just_as_many_as_are_needed(self):
         for most in (2, 3, 4):
-            town = Town(((1, 2), (), ()), (levelling(2),) * 3)
+            town = self.made(((1, 2), (), ()), (levelling(2),) * 3)
             self.assertEqual(town.settle(most), min(most, 3))
             self.assertIs(town.rests(), most >= 3)
 
@@ -397,21 +303,21 @@ class SettleTest(TownCase):
                 tuple(w for w in range(many) if w in web[u] or u in web[w] or abs(u - w) == 1)
                 for u in range(many)
             )
-            town = Town(both, (levelling(max(1, many - 1)),) * many)
+            town = self.made(both, (levelling(max(1, many - 1)),) * many)
             town.settle(10000)
             self.assertIs(town.rests(), True)
             row = tuple(tuple(w for w in (u - 1, u + 1) if 0 <= w < many) for u in range(many))
             self.assertEqual(town.web(), row)
 
     def test_no_number(self):
-        town = Town(((1,), ()), (TELLS, None))
+        town = self.made(((1,), ()), (TELLS, None))
         for most in ODD_PEOPLE + [10001, -2] + odd_things():
             self.check_refused(town, NoNumber, lambda: town.settle(most))
 
 
 class BackAndCopyTest(TownCase):
     def test_back_for_each_kind_of_item(self):
-        town = Town(((1, 2), (), ()), (levelling(2), TELLS, None))
+        town = self.made(((1, 2), (), ()), (levelling(2), TELLS, None))
         steps = [
             lambda: town.act(0), lambda: town.come(2, 1), lambda: town.deed(("turn", 2, 1)), lambda: town.enter(1, TELLS),
             lambda: town.act(3), lambda: town.deed(("show", 0, 1, 0)), lambda: town.settle(4), lambda: town.enter(3, None),
@@ -431,7 +337,7 @@ class BackAndCopyTest(TownCase):
         self.assertEqual(told(town), seen[0])
 
     def test_nothing_done(self):
-        town = Town(((1,), ()), (TELLS, None))
+        town = self.made(((1,), ()), (TELLS, None))
         self.check_refused(town, NothingDone, town.back)
         town.act(0)
         town.back()
@@ -440,7 +346,7 @@ class BackAndCopyTest(TownCase):
         self.check_refused(town, NothingDone, town.back)
 
     def test_rules_of_newcomers_are_taken_back(self):
-        town = Town(((),), (None,))
+        town = self.made(((),), (None,))
         town.enter(0, TELLS)
         town.back()
         self.check_refused(town, NoPerson, lambda: town.act(1))
@@ -448,10 +354,10 @@ class BackAndCopyTest(TownCase):
         self.assertIs(town.act(1), False)
 
     def test_copies_go_on_apart(self):
-        town = Town(((1, 2), (), ()), (levelling(2),) * 3)
+        town = self.made(((1, 2), (), ()), (levelling(2),) * 3)
         town.act(0)
         other = town.copy()
-        self.assertIs(type(other), Town)
+        self.assertIs(type(other), self.made)
         self.assertEqual(told(other), told(town))
         before = told(town)
         other.come(1, 2)
@@ -469,7 +375,7 @@ class BackAndCopyTest(TownCase):
         self.assertEqual(town.log(), [("show", 0, 1, 2)])
 
     def test_copy_of_a_town_with_letters_and_newcomers(self):
-        town = Town(((1,), ()), (TELLS, None))
+        town = self.made(((1,), ()), (TELLS, None))
         town.act(0)
         town.enter(0, TELLS)
         other = town.copy().copy()
@@ -478,7 +384,7 @@ class BackAndCopyTest(TownCase):
         self.assertEqual(other.settle(5), town.settle(5))
 
     def test_lists_are_new(self):
-        town = Town(((1,), ()), (TELLS, None))
+        town = self.made(((1,), ()), (TELLS, None))
         town.act(0)
         log = town.log()
         self.assertEqual([type(log), type(log[0])], [list, tuple])
@@ -528,7 +434,7 @@ class DrawnTownsTest(TownCase):
             web = drawn_web(draw, many, draw.choice([0.2, 0.5]))
             rows = [drawn_rows(draw, 3, 0.7, 0.8) for _ in range(many)]
             rules = [draw.choice([None, lot, lot]) for lot in rows]
-            town = Town(web, tuple(None if lot is None else Rule(3, lot) for lot in rules))
+            town = self.made(web, tuple(None if lot is None else Rule(3, lot) for lot in rules))
             model = ModelTown(web, rules)
             for _ in range(30):
                 self.drawn_step(draw, town, model, rows)
@@ -548,7 +454,7 @@ class DrawnTownsTest(TownCase):
         draw = random.Random(32)
         for _ in range(10):
             web = drawn_web(draw, 6, 0.4)
-            one, other = Town(web, (levelling(8),) * 6), Town(web, (levelling(8),) * 6)
+            one, other = self.made(web, (levelling(8),) * 6), self.made(web, (levelling(8),) * 6)
             self.assertEqual(one.settle(40), other.settle(40))
             self.assertEqual(told(one), told(other))
 
