@@ -4,7 +4,7 @@ from itertools import combinations
 
 from stillfound.errors import NoNotes, NoNumber
 from stillfound.notes import is_delivered, next_to
-from stillfound.plain import check_person, is_between, is_person
+from stillfound.plain import check_person, is_between, is_integer, is_person
 from stillfound.rules import check_rules
 from stillfound.runs import all_runs, first_state, led, moves_from
 from stillfound.webs import check_web
@@ -26,7 +26,7 @@ def strand(web, rules, notes):
 def is_strand(web, rules, notes, thing):
     """Whether a thing is moves behind which none can be made, and the number of a note not delivered then."""
     check_post(web, rules, notes)
-    if not isinstance(thing, tuple) or len(thing) != 2 or not is_between(thing[1], 0, len(notes) - 1):
+    if not isinstance(thing, tuple) or len(thing) != 2 or not is_integer(thing[1]):
         return False
     state = led(first_state(web, notes), rules, thing[0])
     return state is not None and thing[1] in undelivered(state) and not moves_from(state, rules)

@@ -117,11 +117,12 @@ class Post(Town):
         """Let the least letter come, else the least note land or go on, else the least person act."""
         if self.letters():
             return super()._step()
-        number = first_on_way(self.notes())
+        notes = self.notes()
+        number = first_on_way(notes)
         if number is not None:
             self.land(number)
             return True
-        number = first_to_go(self.web(), self.notes())
+        number = first_to_go(self.web(), notes)
         if number is not None:
             return self.carry(number)
         return super()._step()

@@ -304,6 +304,11 @@ def told(town):
     return town.web(), town.letters(), town.found(), town.rests(), town.log()
 
 
+def all_told(post):
+    """All that a post tells."""
+    return *told(post), post.notes(), post.delivered()
+
+
 def wrong_rules(many):
     """What is no tuple of rules for so many people."""
     rule = levelling(2)

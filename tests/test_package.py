@@ -38,6 +38,9 @@ FUNCTIONS = {
         "is_straight": ["web"], "hops": ["web", "u", "t"], "farthest": ["web"], "fewest_far": ["many", "most"],
     },
     "farewells": {"is_spare": ["standing", "x"], "spare": ["web"], "farewell": ["standing", "x"]},
+    "journals": {"journal": ["town"], "recovered": ["web", "rules", "guide", "text"]},
+    "vanishing": {"firm": ["web", "k"], "weak": ["web", "k"], "greatest_firm": ["web"]},
+    "texts": {"web_text": ["web"], "row_text": ["row"], "read_web": ["text"], "read_row": ["text"]},
 }
 
 TOWN = {
@@ -52,6 +55,12 @@ CLASSES = {
     "post": {
         "Post": (["web", "rules"], {
             **TOWN, "send": ["u", "t"], "carry": ["number"], "land": ["number"], "notes": [], "delivered": [],
+        }),
+    },
+    "register": {
+        "Register": (["many"], {
+            "put": ["u", "w"], "cut": ["u", "w"], "pocket": ["u"], "finds": ["u"], "cards": [], "pieces": [],
+            "knots": [], "log": [], "back": [], "copy": [],
         }),
     },
 }

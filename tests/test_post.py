@@ -10,14 +10,9 @@ from stillfound.rules import Rule, levelling
 from stillfound.town import Town
 from tests import test_town
 from tests.helper import (
-    ODD_PEOPLE, TELLS, ModelTown, bare, crowd, drawn_rows, drawn_web, line, model_moves, model_next, odd_things,
-    right_deeds, rules_of, told,
+    ODD_PEOPLE, TELLS, ModelTown, all_told, bare, crowd, drawn_rows, drawn_web, line, model_moves, model_next, odd_things,
+    right_deeds, rules_of,
 )
-
-
-def all_told(post):
-    """All that a post tells."""
-    return *told(post), post.notes(), post.delivered()
 
 
 def neighbours(many):
